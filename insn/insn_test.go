@@ -157,8 +157,8 @@ func TestAskedAtOnce(t *testing.T) {
 	for range 8 {
 		all.Go(func() {
 			for _, l := range lines {
-				if insn.Class(l.op) != l.class || insn.Name(l.op) != l.name {
-					t.Errorf("P2.1: %s asked by several at once", l.name)
+				if name, class, size := insn.Listed(l.op); name != l.name || class != l.class || size != l.size {
+					t.Errorf("P2.1: %s asked by several at once: %q, class %d, size %d", l.name, name, class, size)
 				}
 			}
 		})
@@ -199,6 +199,20 @@ func TestNoOperation(t *testing.T) {
 		check(t, api.Insn{Op: op}, false)
 		check(t, api.Insn{Op: op, Rd: 1, Rs1: 2, Rs2: 3}, false)
 		check(t, api.Insn{Op: op, Rd: 1, Rs1: 2, Rs2: 3, Imm: 4, CSR: 5}, false)
+	}
+}
+
+// The table made once and the calls that do without it.
+func TestListed(t *testing.T) {
+	ops := slices.Clone(strangers)
+	for op := -100; op <= api.Ops+100; op++ {
+		ops = append(ops, op)
+	}
+	for _, op := range ops {
+		name, class, size := insn.Listed(op)
+		if name != insn.Name(op) || class != insn.Class(op) || size != insn.Size(op) {
+			t.Errorf("P2.1: of %d the table has %q, class %d, size %d, the calls answer %q, %d, %d", op, name, class, size, insn.Name(op), insn.Class(op), insn.Size(op))
+		}
 	}
 }
 
